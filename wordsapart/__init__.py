@@ -1,0 +1,1 @@
+"""Wordsapart: the most words that are far enough apart, from both sides."""
