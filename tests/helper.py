@@ -1,6 +1,7 @@
 """What the tests share: the kinds of values, and the definitions reckoned the long way."""
 
 from itertools import product
+from math import comb, gcd
 
 SIZES = [(2, n) for n in range(1, 9)] + [(3, n) for n in range(1, 6)]
 SMALL_SIZES = [(2, 1), (2, 2), (2, 3), (2, 4), (3, 1), (3, 2), (3, 3)]
@@ -58,3 +59,54 @@ def is_words(q, n, value):
 
 def is_rising(words):
     return all(words[at] < words[at + 1] for at in range(len(words) - 1))
+
+
+def some_lists(q, n):
+    """Lists of unlike words: none, one, several in any order, all."""
+    words = every_word(q, n)
+    spread = list(dict.fromkeys(spread_row(q, n, 12, 7)))
+    return [[], [words[0]], [words[-1]], [words[-1], words[0]], spread, spread[::-1], words[::3], words[::-2], words]
+
+
+def slow_apart(words):
+    """The least distance, or None where there are fewer than two words."""
+    gaps = [differing(one, other) for at, one in enumerate(words) for other in words[:at]]
+    return min(gaps, default=None)
+
+
+def far_list(q, n, d, start=0):
+    """Words each two of which are at least d apart, in no order, taken by leaps from a starting place on."""
+    words = every_word(q, n)
+    chosen = []
+    for k in range(len(words)):
+        # 7 has no divisor in common with any power of 2 or 3, so each word comes once.
+        word = words[(start + 7 * k) % len(words)]
+        if all(differing(word, held) >= d for held in chosen):
+            chosen.append(word)
+    return chosen
+
+
+def is_whole_list(value):
+    return type(value) is list and all(is_whole(number) for number in value)
+
+
+def is_fraction(value):
+    """A tuple of two whole numbers in lowest terms, the bottom from 1 on."""
+    if type(value) is not tuple or len(value) != 2 or not all(is_whole(number) for number in value):
+        return False
+    return value[1] >= 1 and gcd(value[0], value[1]) == 1
+
+
+def slow_wave(q, n, k, i):
+    """By the words of the definition."""
+    return sum((-1) ** j * (q - 1) ** (k - j) * comb(i, j) * comb(n - i, k - j) for j in range(k + 1))
+
+
+def slow_counts(n, words):
+    told = [differing(one, other) for one in words for other in words]
+    return [told.count(i) for i in range(n + 1)]
+
+
+def slow_swells(q, n, words):
+    told = slow_counts(n, words)
+    return [sum(told[i] * slow_wave(q, n, k, i) for i in range(n + 1)) for k in range(n + 1)]

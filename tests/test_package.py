@@ -1,4 +1,5 @@
 import ast
+import doctest
 import importlib
 import re
 import unittest
@@ -10,6 +11,10 @@ INTERFACE = {
     "errors": {"ApartError": None, "NoText": None, "NoLine": None, "NoSize": None, "NoWord": None, "Near": None},
     "words": {"all_words": 2, "distance": 2, "weight": 1, "apart": 1, "keeps": 2, "counts": 2, "plus": 3, "taken": 3},
     "spans": {"span": 3, "checked": 3, "base": 3},
+    "makings": {"cut": 1, "shorter": 2, "longer": 2, "beside": 2, "pairs": 2, "sums": 3},
+    "picks": {"in_order": 3, "taken_on": 4, "heard": 2, "reach": 3},
+    "waves": {"ways": 2, "wave": 4, "swells": 3},
+    "weights": {"weights_right": 4, "weights_tell": 3, "least_weights": 3, "equality": 5},
 }
 BARRED = """type typing typing_extensions enum Enum IntEnum StrEnum Flag IntFlag Generic Protocol ABC ABCMeta namedtuple
     NamedTuple TypedDict TYPE_CHECKING abstractmethod""".split()
@@ -33,6 +38,13 @@ class Interface(unittest.TestCase):
                     self.assertEqual(getattr(module, each).__code__.co_argcount, many, each)
 
 
+class Readme(unittest.TestCase):
+    def test_its_example_holds(self):
+        told = doctest.testfile(str(PACKAGE.parent / "README.md"), module_relative=False)
+        self.assertGreater(told.attempted, 0)
+        self.assertEqual(told.failed, 0)
+
+
 class Files(unittest.TestCase):
     def test_the_package_holds_plain_files_alone(self):
         self.assertIn(PACKAGE / "__init__.py", FILES)
@@ -54,6 +66,24 @@ class Files(unittest.TestCase):
         for path in FILES:
             for word in BARRED:
                 self.assertIsNone(re.search(rf"\b{word}\b", path.read_text()), (path, word))
+
+    def test_whole_numbers_alone(self):
+        for path in FILES:
+            for node in ast.walk(ast.parse(path.read_text())):
+                self.assertFalse(isinstance(node, ast.Constant) and isinstance(node.value, float), path)
+                self.assertNotIsInstance(node, ast.Div, path)
+                if isinstance(node, ast.BinOp) and isinstance(node.op, ast.Pow):
+                    self.assertIsInstance(node.right, ast.Constant, path)
+
+    def test_no_local_name_is_that_of_an_import(self):
+        for path in FILES:
+            tree = ast.parse(path.read_text())
+            imported = {name.name for node in tree.body if isinstance(node, ast.ImportFrom) for name in node.names}
+            for node in ast.walk(tree):
+                if isinstance(node, ast.arg):
+                    self.assertNotIn(node.arg, imported, path)
+                if isinstance(node, ast.Name) and isinstance(node.ctx, ast.Store):
+                    self.assertNotIn(node.id, imported, path)
 
     def test_imports_are_from_the_package_alone(self):
         for path in FILES:

@@ -1,24 +1,9 @@
 import unittest
 from itertools import combinations, product
 
-from helper import SIZES, SMALL_SIZES, differing, every_word, is_rising, is_whole, is_word, is_words, spread_row
+from helper import (SIZES, SMALL_SIZES, differing, every_word, is_rising, is_whole, is_word, is_words, slow_apart,
+                    slow_counts, some_lists)
 from wordsapart.words import all_words, apart, counts, distance, keeps, plus, taken, weight
-
-
-def some_lists(q, n):
-    """Lists of unlike words: none, one, several in any order, all."""
-    words = every_word(q, n)
-    spread = list(dict.fromkeys(spread_row(q, n, 12, 7)))
-    return [[], [words[0]], [words[-1]], [words[-1], words[0]], spread, spread[::-1], words[::3], words[::-2], words]
-
-
-def slow_apart(words):
-    return min([differing(one, other) for one, other in combinations(words, 2)], default=None)
-
-
-def slow_counts(n, words):
-    told = [differing(one, other) for one in words for other in words]
-    return [told.count(i) for i in range(n + 1)]
 
 
 def wide_list():
