@@ -110,3 +110,78 @@ def slow_counts(n, words):
 def slow_swells(q, n, words):
     told = slow_counts(n, words)
     return [sum(told[i] * slow_wave(q, n, k, i) for i in range(n + 1)) for k in range(n + 1)]
+
+
+def slow_right(q, n, d, weights):
+    """Whether weights are right, d from 1 to n, by the words of the definition."""
+    times, rows = weights
+    if times < 1 or len(rows) != n or min(rows) < 0:
+        return False
+    return max(slow_level(q, n, weights, i) for i in range(d, n + 1)) <= 0
+
+
+def slow_level(q, n, weights, i):
+    """Times and the sum of the rows, each taken wave number times."""
+    times, rows = weights
+    return times + sum(rows[k - 1] * slow_wave(q, n, k, i) for k in range(1, n + 1))
+
+
+def slow_paper(q, n, d, paper):
+    """What a paper tells, or None, by the words of the definition."""
+    name, *rest = paper
+    if name == "one":
+        return 1 if d > n else None
+    if name == "all":
+        return q ** n
+    if name == "balls":
+        return q ** n // sum(comb(n, j) * (q - 1) ** j for j in range((d - 1) // 2 + 1))
+    if name == "waves":
+        return slow_level(q, n, rest, 0) // rest[0] if d <= n and slow_right(q, n, d, rest) else None
+    if name == "nearer":
+        return slow_paper(q, n, d - 1, rest[0]) if d >= 2 else None
+    if name == "cut":
+        return slow_paper(q, n - 1, d - 1, rest[0]) if n >= 2 and d >= 2 else None
+    if name == "longer":
+        return slow_paper(q, n + 1, d + 1, rest[0]) if q == 2 and d % 2 == 1 else None
+    assert name == "shorter"
+    within = slow_paper(q, n - 1, d, rest[0]) if n >= 2 else None
+    return None if within is None else q * within
+
+
+def wrapped(makings, paper):
+    """The paper within the makings, the first one outmost."""
+    for making in reversed(makings):
+        paper = (making, paper)
+    return paper
+
+
+def is_paper(value):
+    """Whether a value is a paper of at most twelve makings, in kinds and shape."""
+    for makings in range(12):
+        if type(value) is not tuple or len(value) == 0 or type(value[0]) is not str:
+            return False
+        if value[0] not in ("nearer", "cut", "shorter", "longer"):
+            break
+        if len(value) != 2:
+            return False
+        value = value[1]
+    if value[0] == "waves":
+        return len(value) == 3 and is_whole(value[1]) and is_whole_list(value[2])
+    return value in (("one",), ("all",), ("balls",))
+
+
+def rows_within(paper):
+    """The lists that stand in a paper: its rows, or none."""
+    while len(paper) == 2:
+        paper = paper[1]
+    return [paper[2]] if paper[0] == "waves" else []
+
+
+def largest(words, d):
+    """How many of the words can be chosen that are at least d apart: for few words alone."""
+    if len(words) == 0:
+        return 0
+    first, rest = words[0], words[1:]
+    taking = 1 + largest([word for word in rest if differing(first, word) >= d], d)
+    # Where all words were taken, leaving the first one out is of no use.
+    return max(taking, largest(rest, d)) if taking <= len(rest) else taking

@@ -15,7 +15,12 @@ INTERFACE = {
     "picks": {"in_order": 3, "taken_on": 4, "heard": 2, "reach": 3},
     "waves": {"ways": 2, "wave": 4, "swells": 3},
     "weights": {"weights_right": 4, "weights_tell": 3, "least_weights": 3, "equality": 5},
+    "papers": {"paper_tells": 4},
+    "tables": {"table": 1, "met": 1},
+    "texts": {"show_list": 1, "show_paper": 1, "read_list": 3, "read_paper": 1},
+    "desk": {"Desk": None},
 }
+METHODS = {"desk": {"Desk": {"__init__": 1, "say": 2}}}
 BARRED = """type typing typing_extensions enum Enum IntEnum StrEnum Flag IntFlag Generic Protocol ABC ABCMeta namedtuple
     NamedTuple TypedDict TYPE_CHECKING abstractmethod""".split()
 
@@ -36,6 +41,13 @@ class Interface(unittest.TestCase):
             for each, many in listed.items():
                 if many is not None:
                     self.assertEqual(getattr(module, each).__code__.co_argcount, many, each)
+
+    def test_each_method_is_defined_in_its_class_itself(self):
+        for name, classes in METHODS.items():
+            module = importlib.import_module(f"wordsapart.{name}")
+            for each, methods in classes.items():
+                for method, many in methods.items():
+                    self.assertEqual(vars(getattr(module, each))[method].__code__.co_argcount, many, method)
 
 
 class Readme(unittest.TestCase):

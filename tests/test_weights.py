@@ -3,7 +3,7 @@ from fractions import Fraction
 from itertools import product
 
 from helper import (SIZES, every_word, far_list, is_fraction, is_whole, is_whole_list, slow_apart, slow_counts,
-                    slow_swells, slow_wave, spread_row)
+                    slow_level, slow_right, slow_swells, slow_wave, spread_row)
 from wordsapart.picks import in_order
 from wordsapart.spans import checked, span
 from wordsapart.weights import equality, least_weights, weights_right, weights_tell
@@ -11,18 +11,6 @@ from wordsapart.weights import equality, least_weights, weights_right, weights_t
 PLACES = [(q, n, d) for q, n in SIZES for d in range(1, n + 1)]
 SMALL_PLACES = [(q, n, d) for q, n, d in PLACES if n <= 3]
 BIG = 10 ** 45 + 7
-
-
-def slow_level(q, n, weights, i):
-    times, rows = weights
-    return times + sum(rows[k - 1] * slow_wave(q, n, k, i) for k in range(1, n + 1))
-
-
-def slow_right(q, n, d, weights):
-    times, rows = weights
-    if times < 1 or len(rows) != n or min(rows) < 0:
-        return False
-    return max(slow_level(q, n, weights, i) for i in range(d, n + 1)) <= 0
 
 
 def slow_tell(q, n, weights):

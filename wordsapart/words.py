@@ -1,6 +1,8 @@
 """Words, their distances and weights, and sums of words."""
 
 SIGNS = "012"
+# How long words are at most, by how many signs there are.
+LONGEST = {2: 8, 3: 5}
 
 
 def all_words(q, n):
