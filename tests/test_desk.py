@@ -11,7 +11,8 @@ from wordsapart.texts import read_paper, show_paper
 
 TABLES = {q: table(q) for q in (2, 3)}
 FORTY = "9" * 40
-NO_NUMBERS = ["", "00", "01", "-1", "+1", "1.0", "1_0", "x", "1x", "0x1", "1" + "0" * 40, FORTY + "9", "0" * 40, "1:", ":"]
+NO_NUMBERS = ["", "00", "01", "-1", "+1", "1.0", "1_0", "x", "1x", "0x1", "1" + "0" * 40, FORTY + "9", "0" * 40, "1:",
+              ":"]
 PAPERS = ["one", "all", "balls", "waves 1: 1 1 1 1", "waves 1: 1 0 0 0", "waves 4: 1 0 0 0", "waves 2: 2 1 0 0",
           "waves 1: 1", "waves 0: -", "nearer of all", "cut of balls", "shorter of one", "longer of balls",
           "cut of shorter of waves 1: 1 0", "nearer of " * 11 + "one", f"waves {'9' * 60}: {'9' * 60} 0 0 0"]
@@ -238,7 +239,7 @@ class Tables(Desks):
             for line in ("most 1", "why 1", "most 4", "signs 3 5", "most 5", "why 2", "signs 2 8", "most 8", "why 3",
                          "signs 3 1", "most 1", "signs 2 1", "why 1"):
                 desk.say(line)
-        self.assertLessEqual(max(asked.count(2), asked.count(3)), 1)
+        self.assertEqual(asked, [2, 3])
 
 
 class Judge(Desks):
@@ -268,8 +269,9 @@ class Judge(Desks):
 
     def test_how_it_is_written(self):
         desk = Desk()
-        for line in ("judge", "judge ", "judge 3", "judge 3:", "judge 3: ", "judge 3 all", "judge 3 : all", "judge 3:all",
-                     "judge  3: all", "judge 3:  all", "judge 3: all ", " judge 3: all", "judge: 3 all", "judge: all",
+        for line in ("judge", "judge ", "judge 3", "judge 3:", "judge 3: ", "judge 3 all", "judge 3 : all",
+                     "judge 3:all", "judge  3: all", "judge 3:  all", "judge 3: all ", " judge 3: all",
+                     "judge: 3 all", "judge: all",
                      "judge :3 all", "judge 3:: all", "judge 3; all", "judge all", "judge all: 3", "judge 3: all: 3",
                      "judge 3: all all", "Judge 3: all", "judge 3 all:", "judge : all"):
             self.refused(NoLine, desk, line)
@@ -281,7 +283,8 @@ class NoLines(Desks):
             for line in ("", " ", "  ", " " * 2000, "~" * 2000, "lists", "LIST", "List", "put", "take", "hear", "fits",
                          "most", "why", "signs", "list ", " list", "list list", "list 1", "apart ", "apart 1", " apart",
                          "counts 2", "counts ", "swells x", "swells  ", "put ", "put  0001", "put 0001 ", " put 0001",
-                         "put 0001 1", "put 0001 0010", "put: 0001", "put 0001:", "put 00:01", "take 0000 ", "take  0000",
+                         "put 0001 1", "put 0001 0010", "put 0001 0010 0100", "list 1 2 3", "signs 2 4 4 4",
+                         "put: 0001", "put 0001:", "put 00:01", "take 0000 ", "take  0000",
                          "hear 0000 1", "hear  0000", "fits 0000", "fits 0000 ", "fits 0000  1", "fits 0000 1 ",
                          "fits 1 0000", "fits 0000 1 1", "fits", "fits 1", "most 1 1", "most  1", "most 1 ", "why 1 1",
                          "why one", "why  1", "signs 2", "signs 2 4 ", "signs  2 4", "signs 2  4", "signs 2 4 4",

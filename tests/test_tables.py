@@ -113,8 +113,9 @@ class Told(unittest.TestCase):
                 self.assertEqual(read_paper(show_paper(paper)), paper)
 
     def test_written_out(self):
-        numbers = {(2, 1, 1): (2, 2), (2, 7, 3): (16, 16), (2, 7, 4): (8, 8), (2, 8, 4): (16, 16), (2, 8, 1): (256, 256),
-                   (2, 8, 8): (2, 2), (3, 1, 1): (3, 3), (3, 4, 3): (9, 9), (3, 5, 1): (243, 243), (3, 5, 2): (81, 81)}
+        numbers = {(2, 1, 1): (2, 2), (2, 7, 3): (16, 16), (2, 7, 4): (8, 8), (2, 8, 4): (16, 16),
+                   (2, 8, 1): (256, 256), (2, 8, 8): (2, 2), (3, 1, 1): (3, 3), (3, 4, 3): (9, 9),
+                   (3, 5, 1): (243, 243), (3, 5, 2): (81, 81)}
         for (q, n, d), expected in numbers.items():
             words, paper, number = TOLD[q][(n, d)]
             self.assertEqual((len(words), number), expected, (q, n, d))
@@ -144,6 +145,20 @@ class ShutLists(unittest.TestCase):
             two = {clause[0] for n, d in lists for clause in least_of_two(q, n, d, lists)}
             self.assertEqual(one, {"as it is", "cut", "shorter", "longer"})
             self.assertEqual(two, {"beside", "pairs", "sums"})
+
+    def test_each_clause_has_a_list_of_its_own(self):
+        for q in (2, 3):
+            for seed in PLACES[q]:
+                lists = {(n, d): ["0" * n] for n, d in PLACES[q]}
+                lists[seed] = in_order(q, seed[0], seed[1])
+                for n, d in PLACES[q]:
+                    made = tables.made_of_one(q, n, d, lists)
+                    self.assertEqual([len(words) for words in made], list(least_of_one(q, n, d, lists).values()))
+                    many = [len(words) for words in tables.made_of_two(q, n, d, lists)]
+                    for (name, n1, d1, n2, d2), asked in least_of_two(q, n, d, lists).items():
+                        # Lists for greater distances are no longer once the table is shut: the least ones are enough.
+                        if name == "beside" or d2 == d and d1 == (d if name == "pairs" else (d + 1) // 2):
+                            self.assertIn(asked, many)
 
     def test_shut_from_weak_beginnings_too(self):
         # All lists have one word but that of one place, so that one making or another is needed everywhere else.

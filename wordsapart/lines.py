@@ -62,16 +62,10 @@ def line_part(q, n, form, part):
     return line_paper(part)
 
 
-def line_parts(line):
-    """The parts of the line between blanks; the paper of a judge line, which has blanks of its own, is one."""
-    if line.startswith("judge "):
-        return line.split(" ", 2)
-    return line.split(" ")
-
-
 def read_line(q, n, line):
     """The first word of the line, and the list of what is told behind it."""
-    name, *parts = line_parts(line)
+    # No line has more than two parts behind its first word, and a paper, which has blanks of its own, is the second.
+    name, *parts = line.split(" ", 2)
     if name not in FORMS:
         raise NoLine("no line begins so")
     if len(parts) != len(FORMS[name]):
