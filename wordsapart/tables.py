@@ -3,8 +3,11 @@
 from wordsapart.makings import beside, cut, longer, pairs, shorter, sums
 from wordsapart.papers import LEADING, paper_tells
 from wordsapart.picks import in_order
+from wordsapart.spans import span
+from wordsapart.texts import read_paper
 from wordsapart.weights import least_weights
-from wordsapart.words import LONGEST
+from wordsapart.words import LONGEST, all_words
+from wordsapart.written import WRITTEN
 
 
 def all_places(q):
@@ -120,8 +123,9 @@ def own_paper(paper):
     return paper
 
 
-def table(q):
-    """For each place (n, d), by n, then d, a list that keeps apart by d, a paper, and the number that it tells."""
+def reckoned(q):
+    """The table of q, reckoned from the ground up."""
+    # Far too slow for each asking: what this tells stands in wordsapart.written, and the tests hold the two together.
     lists = shut_lists(q)
     papers = shut_papers(q)
     told = {}
@@ -129,6 +133,21 @@ def table(q):
         # One list may have come to several places, and one paper may stand within others: each gets its own.
         paper = own_paper(papers[(n, d)])
         told[(n, d)] = (sorted(lists[(n, d)]), paper, paper_tells(q, n, d, paper))
+    return told
+
+
+def written_list(q, n, text):
+    """The list that is written by a base of which it is the span, or as all words."""
+    # All words could be written by a base like the others, but would take longer than all other lists together.
+    return all_words(q, n) if text == "all" else span(q, n, text.split(" "))
+
+
+def table(q):
+    """For each place (n, d), by n, then d, a list that keeps apart by d, a paper, and the number that it tells."""
+    # Plain texts are read anew each time, so each list that is told is the asker's own.
+    told = {}
+    for n, d, words, paper, number in WRITTEN[q]:
+        told[(n, d)] = (written_list(q, n, words), read_paper(paper), number)
     return told
 
 
