@@ -275,6 +275,18 @@ ASKED = [
 ]
 
 
+class Beyond(Case):
+    # What is told of words with fewer places than are asked for is not promised, but is no error.
+    def test_words_of_one_place_and_of_none(self):
+        for q in (1, 2, 3, 4):
+            for words in ([], [""], ["0"], ["1", "0"]):
+                for told in (cut(words), shorter(q, words), longer(q, words)):
+                    self.assertIs(type(told), list)
+                for other in ([], [""], ["0"], ["0", "1"]):
+                    for told in (beside(words, other), pairs(words, other), sums(q, words, other)):
+                        self.assertIs(type(told), list)
+
+
 class Handed(Case):
     def test_any_order_comes_to_the_same(self):
         one, other = ["000", "011", "101", "110"], ["000", "001", "111"]

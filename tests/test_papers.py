@@ -15,6 +15,7 @@ PLACES = [(q, n, d) for q, n in SIZES for d in range(1, n + 1)]
 MAKINGS = ["nearer", "cut", "shorter", "longer"]
 PLAIN = [("one",), ("all",), ("balls",)]
 BIG = 10 ** 59 + 7
+DEEP = [[making] * 11 for making in MAKINGS] + [["longer", "nearer"] * 5, ["longer"] * 30, ["cut"] * 30]
 
 
 def least_paper(q, n, d):
@@ -223,6 +224,36 @@ class Deep(unittest.TestCase):
 
     def test_more_than_twelve_are_no_error(self):
         self.assertEqual(paper_tells(2, 20, 20, wrapped(["shorter"] * 19, ("one",))), 2 ** 19)
+
+
+class Beyond(unittest.TestCase):
+    # What is told beyond the bounds is not promised, but for its kind and that it is no error.
+    def assert_no_error(self, q, n, d):
+        for paper in some_papers(q) + [wrapped(makings, ("balls",)) for makings in DEEP]:
+            told = paper_tells(q, n, d, paper)
+            self.assertTrue(told is None or is_whole(told), (q, n, d, paper))
+
+    def test_distances_below_one(self):
+        for q, n, d in product((2, 3), (1, 2, 4, 5, 8, 20), range(-5, 1)):
+            self.assert_no_error(q, n, d)
+
+    def test_no_paper_is_for_a_distance_below_one(self):
+        for q, n, d in product((2, 3), range(1, 21), range(-5, 1)):
+            for paper in PLAIN + [("longer", ("balls",)), ("shorter", ("all",)), ("waves", 1, [1] * n)]:
+                self.assertIsNone(paper_tells(q, n, d, paper))
+
+    def test_lengths_below_one(self):
+        for q, n, d in product((2, 3), range(-5, 1), (-2, -1, 0, 1, 2, 3, 20)):
+            self.assert_no_error(q, n, d)
+
+    def test_above_twenty(self):
+        for q, n, d in product((2, 3), (4, 21, 25), (3, 21, 22, 25)):
+            self.assert_no_error(q, n, d)
+
+    def test_fewer_and_more_signs(self):
+        for q, n, d in product((0, 1, 4, 5), (-1, 0, 1, 4), (-1, 0, 1, 3, 20)):
+            for paper in some_papers(2):
+                paper_tells(q, n, d, paper)
 
 
 class Holds(unittest.TestCase):

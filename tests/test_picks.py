@@ -194,6 +194,24 @@ class Reach(Picks):
         self.assertEqual(reach(2, 8, ["11111111", "00000000"]), 4)
 
 
+class Beyond(unittest.TestCase):
+    # What is told beyond the bounds is not promised, but is no error.
+    def test_distances_and_lengths_below_one(self):
+        for q, n, d in product((2, 3), (-2, -1, 0, 1, 3), (-3, -1, 0, 1, 9)):
+            self.assertIs(type(in_order(q, n, d)), list)
+            self.assertIs(type(taken_on(q, n, d, ["0" * n])), list)
+
+    def test_an_empty_list_has_no_nearest_words(self):
+        for word in ("", "0", "0110", "11111111"):
+            self.assertEqual(heard([], word)[1], [])
+            self.assertTrue(is_whole(heard([], word)[0]))
+
+    def test_the_reach_of_an_empty_list_and_of_fewer_and_more_signs(self):
+        for q, n in product((1, 2, 3, 4), (-1, 0, 1, 4)):
+            self.assertTrue(is_whole(reach(q, n, [])))
+            self.assertTrue(is_whole(reach(q, n, ["0" * n])))
+
+
 class Handed(unittest.TestCase):
     def test_the_handed_list_stays_as_it_was(self):
         for words in (["110", "000"], ["111", "001"], ["011"]):

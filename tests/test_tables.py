@@ -255,6 +255,14 @@ class Own(unittest.TestCase):
         self.assertEqual({3: table(3), 2: table(2)}, before)
 
 
+class Beyond(unittest.TestCase):
+    # What is told of other numbers of signs is not promised, but is no error.
+    def test_fewer_and_more_signs(self):
+        for q in (-1, 0, 1, 4, 5):
+            self.assertIs(type(table(q)), dict)
+            self.assertIs(type(met(q)), list)
+
+
 class Met(unittest.TestCase):
     def test_each_place_where_list_and_number_have_as_many_in_order(self):
         for q in (2, 3):

@@ -1,4 +1,5 @@
 import unittest
+from itertools import product
 from math import comb
 
 from helper import (SIZES, differing, every_word, far_list, is_whole, is_whole_list, slow_product, slow_swells,
@@ -133,6 +134,18 @@ class Swells(unittest.TestCase):
         self.assertEqual(swells(2, 3, ["000", "001"]), [4, 8, 4, 0])
         self.assertEqual(swells(3, 2, ["00", "12"]), [4, 4, 10])
         self.assertEqual(swells(3, 1, ["0", "1"]), [4, 2])
+
+
+class Beyond(unittest.TestCase):
+    # What is told beyond the bounds is not promised, but is no error.
+    def test_wave_of_any_numbers(self):
+        for q, n, k, i in product((0, 1, 2, 3, 4), (-2, -1, 0, 1, 4, 10), (-2, -1, 0, 1, 5, 11), (-2, -1, 0, 1, 5, 11)):
+            self.assertTrue(is_whole(wave(q, n, k, i)))
+
+    def test_swells_at_lengths_below_one_and_above_the_bounds(self):
+        for q, n in product((1, 2, 3, 4), (-2, -1, 0, 6, 9)):
+            for words in ([], ["0" * n]):
+                self.assertTrue(is_whole_list(swells(q, n, words)))
 
 
 class Handed(unittest.TestCase):

@@ -314,6 +314,59 @@ class Equality(unittest.TestCase):
         self.assertEqual(equality(2, 2, 2, words, (1, [2, 2])), (False, [], [2]))
 
 
+class Beyond(unittest.TestCase):
+    # What is told beyond the bounds is not promised, but for its kind and that it is no error.
+    def assert_least(self, q, n, d):
+        told = least_weights(q, n, d)
+        self.assertEqual((type(told), len(told)), (tuple, 3))
+        value, (times, rows), shares = told
+        self.assertTrue(is_fraction(value) and is_whole(times) and is_whole_list(rows), (q, n, d))
+        self.assertTrue(type(shares) is list and all(is_fraction(share) for share in shares), (q, n, d))
+        self.assertEqual((len(rows), len(shares)), (max(n, 0), max(n, 0) + 1), (q, n, d))
+
+    def test_least_weights_at_distances_below_one_and_above_the_length(self):
+        for q, n in SIZES:
+            for d in (-20, -2, -1, 0, n + 1, n + 2, n + 20):
+                self.assert_least(q, n, d)
+
+    def test_below_one_all_unlike_words_keep_apart_as_at_one(self):
+        for q, n in SIZES:
+            for d in (-3, -2, -1, 0):
+                self.assertEqual(least_weights(q, n, d), least_weights(q, n, 1))
+
+    def test_least_weights_at_lengths_below_one_and_above_eight(self):
+        for q, n, d in product((2, 3), (-3, -1, 0, 9, 12), (-2, -1, 0, 1, 2, 5, 12, 13)):
+            self.assert_least(q, n, d)
+
+    def test_least_weights_of_fewer_and_more_signs(self):
+        for q, n, d in product((-1, 0, 1, 4, 5), (-1, 0, 1, 4, 6), (-1, 0, 1, 2, 4, 7)):
+            self.assert_least(q, n, d)
+
+    def test_times_nought_and_below_tell_a_fraction(self):
+        for q, n in SIZES + [(2, 0), (3, 0), (2, 9), (1, 4), (4, 3)]:
+            for times in (0, -1, -2, -BIG):
+                for rows in ([0] * n, [1] * n, [-1] * n, [], [BIG] * (n + 1)):
+                    self.assertTrue(is_fraction(weights_tell(q, n, (times, rows))), (q, n, times, rows))
+
+    def test_equality_with_any_times_and_rows_and_distance(self):
+        for q, n in [(2, 1), (2, 4), (2, 8), (3, 1), (3, 3)]:
+            for words, d, times in product(([], ["0" * n], far_list(q, n, n, 1)), (-20, -1, 0, 1, n + 1), (-2, 0, 1)):
+                for rows in ([0] * n, [1] * n, [1] * (n - 1), [], [2] * (n + 3), [-1] * n):
+                    told = equality(q, n, d, words, (times, rows))
+                    self.assertEqual((type(told), len(told), type(told[0])), (tuple, 3, bool))
+                    self.assertTrue(is_whole_list(told[1]) and is_whole_list(told[2]))
+
+    def test_equality_at_length_nought(self):
+        for words, d, times in product(([], [""]), (-1, 0, 1, 2), (0, 1)):
+            equality(2, 0, d, words, (times, []))
+            equality(3, 0, d, words, (times, [1]))
+
+    def test_weights_right_is_a_truth(self):
+        for q, n, d, times in product((1, 2, 3, 4), (-1, 0, 1, 4), (-9, -1, 0, 5), (-1, 0, 1)):
+            for rows in ([], [0] * n, [1] * n):
+                self.assertIs(type(weights_right(q, n, d, (times, rows))), bool)
+
+
 class Handed(unittest.TestCase):
     def test_what_is_handed_in_stays_as_it_was(self):
         rows, words = [1, 0, 0], ["110", "000"]

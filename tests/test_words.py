@@ -210,6 +210,28 @@ class Sums(unittest.TestCase):
         self.assertEqual([taken(3, "2", times) for times in (0, 1, 2)], ["0", "2", "1"])
 
 
+class Beyond(unittest.TestCase):
+    # What is told beyond the bounds is not promised, but is no error.
+    def test_lengths_below_one_and_above_the_bounds(self):
+        for q, n in product((2, 3), (-2, -1, 0, 6, 9)):
+            words = all_words(q, n)[:20]
+            self.assertIs(type(counts(n, words)), list)
+            self.assertIs(type(counts(n, [])), list)
+            apart(words)
+
+    def test_distances_and_times_below_their_bounds_and_above(self):
+        for number in (-3, -1, 0, 4, 9):
+            self.assertIs(keeps([], number), True)
+            self.assertIs(type(keeps(["0012", "0120", "0012"], number)), bool)
+            self.assertEqual(len(taken(3, "0012", number)), 4)
+
+    def test_fewer_and_more_signs(self):
+        for q, n in product((0, 1, 4), (-1, 0, 1, 3)):
+            self.assertIs(type(all_words(q, n)), list)
+        self.assertIs(type(plus(1, "00", "00")), str)
+        self.assertIs(type(plus(4, "33", "12")), str)
+
+
 class Handed(unittest.TestCase):
     def test_the_handed_list_stays_as_it_was(self):
         for q, n in SIZES:

@@ -10,10 +10,11 @@ def cut(words):
 
 def shorter(q, words):
     """The words that begin with the sign with which most begin, without it; of several such signs the least."""
-    begun = [word[0] for word in words]
+    # By slices, since words without places, beyond the bounds, begin with no sign and are no error.
+    begun = [word[:1] for word in words]
     # Of several greatest max tells the first, and the signs are rising: so the least one.
     first = max(SIGNS[:q], key=lambda sign: begun.count(sign))
-    return sorted([word[1:] for word in words if word[0] == first])
+    return sorted([word[1:] for word in words if word[:1] == first])
 
 
 def closing(q, word):

@@ -47,6 +47,9 @@ def led_back(q, n, d, making):
 
 def paper_tells(q, n, d, paper):
     """The number that the paper tells for q, n and d, or None where it is none for them."""
+    # From 1 on no making leads back to a length or a distance below 1, so one look at the whole paper is enough.
+    if min(q, n, d) < 1:
+        return None
     factor = 1
     while paper[0] in LEADING:
         place = led_back(q, n, d, paper[0])

@@ -27,7 +27,8 @@ def taken_on(q, n, d, words):
 
 def heard(words, word):
     """The distance of the nearest words of the list, and all nearest ones, rising."""
-    least = min([distance(word, held) for held in words])
+    # An empty list is beyond the bounds, here and in reach: what is told of it is not promised, but no error.
+    least = min([distance(word, held) for held in words], default=0)
     return least, sorted([held for held in words if distance(word, held) == least])
 
 
@@ -35,4 +36,4 @@ def reach(q, n, words):
     """The greatest distance of a word of length n from its nearest words of the list."""
     marked = [marks(word) for word in words]
     everywhere = [marks(word) for word in all_words(q, n)]
-    return max([min([gap(mark, held) for held in marked]) for mark in everywhere])
+    return max([min([gap(mark, held) for held in marked], default=0) for mark in everywhere], default=0)

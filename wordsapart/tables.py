@@ -146,7 +146,8 @@ def table(q):
     """For each place (n, d), by n, then d, a list that keeps apart by d, a paper, and the number that it tells."""
     # Plain texts are read anew each time, so each list that is told is the asker's own.
     told = {}
-    for n, d, words, paper, number in WRITTEN[q]:
+    # Of other numbers of signs no row is written: their tables are empty, since none are promised, but no error.
+    for n, d, words, paper, number in WRITTEN.get(q, ()):
         told[(n, d)] = (written_list(q, n, words), read_paper(paper), number)
     return told
 

@@ -23,7 +23,8 @@ def weights_right(q, n, d, weights):
 def weights_tell(q, n, weights):
     """The fraction that the weights tell."""
     times, rows = weights
-    return lowest(level(q, n, weights, 0), times)
+    # Beyond the bounds, where times are below 1, no fraction is promised; what is told is one all the same.
+    return lowest(level(q, n, weights, 0), max(times, 1))
 
 
 def plain_weights(times, rows):
@@ -36,6 +37,11 @@ def plain_weights(times, rows):
 
 def least_weights(q, n, d):
     """The least fraction that right weights tell, weights that tell it, and shares that show that none tell less."""
+    if min(q, n) < 1:
+        # Without signs or places there is one word at most, and no wave to bound it.
+        return (1, 1), (1, [0] * n), [(1, 1)] + [(0, 1)] * n
+    # Below 1 each distance asks of unlike words what 1 does, and above n each what n + 1 does.
+    d = min(max(d, 1), n + 1)
     # The shares from d on are as great as the waves allow; the prices of the waves' bounds are then the weights.
     bounds = [[-wave(q, n, k, i) for i in range(d, n + 1)] for k in range(1, n + 1)]
     limits = [wave(q, n, k, 0) for k in range(1, n + 1)]
@@ -52,6 +58,7 @@ def equality(q, n, d, words, weights):
     meets = len(words) * bottom == top
     high = swells(q, n, words)
     many = counts(n, words)
-    swelling = [k for k in range(1, n + 1) if rows[k - 1] != 0 and high[k] != 0]
-    counted = [i for i in range(d, n + 1) if many[i] != 0 and level(q, n, weights, i) < 0]
+    # Rows may be fewer or more than n, and d below 1: then what there is of both is looked at.
+    swelling = [k for k, (row, swell) in enumerate(zip(rows, high[1:]), start=1) if row != 0 and swell != 0]
+    counted = [i for i in range(max(d, 1), n + 1) if many[i] != 0 and level(q, n, weights, i) < 0]
     return meets, swelling, counted

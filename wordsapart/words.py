@@ -59,7 +59,8 @@ def keeps(words, d):
 def counts(n, words):
     """At each place i from 0 to n how many ordered pairs of words of the list have the distance i."""
     marked = [marks(word) for word in words]
-    told = [0] * (n + 1)
+    # All words of a length below nought are the empty one, which is nought away from itself.
+    told = [0] * (max(n, 0) + 1)
     for one in marked:
         for other in marked:
             told[gap(one, other)] += 1
